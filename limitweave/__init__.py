@@ -1,0 +1,1 @@
+"""Limitweave: requests under many limits, on a chain of houses."""

@@ -1,0 +1,59 @@
+"""The names, arguments and classes that the interface lists, each in the body of its own file or class."""
+
+import importlib
+import inspect
+import unittest
+
+FUNCTIONS = {
+    "books": {
+        "is_name": "(text)", "is_key": "(text)", "check_request": "(key, group, cost)", "check_moment": "(moment)",
+        "check_limit": "(limit)", "check_entries": "(entries)", "looks_at": "(limit, group)",
+    },
+    "notation": {
+        "format_limit": "(limit)", "format_book": "(book)", "format_entry": "(entry)", "format_entries": "(entries)",
+        "parse_book": "(text)", "parse_entries": "(text)", "format_answer": "(answer)",
+    },
+}
+
+CLASSES = {
+    "books": {
+        "Book": {
+            "__init__": "(self, limits)", "limit_named": "(self, name)", "limits_for": "(self, group)",
+            "with_limit": "(self, limit)", "without_limit": "(self, name)", "same_as": "(self, other)",
+        },
+    },
+    "keeper": {"Answer": {"__init__": "(self, key, moment, lacking, earliest)", "parts": "(self)"}},
+}
+
+PROPERTIES = {("books", "Book"): ["limits", "limit_names"]}
+
+
+def module_of(name):
+    return importlib.import_module(f"limitweave.{name}")
+
+
+class Interface(unittest.TestCase):
+    def test_functions(self):
+        for file, functions in FUNCTIONS.items():
+            for name, arguments in functions.items():
+                with self.subTest(file=file, name=name):
+                    function = getattr(module_of(file), name)
+                    self.assertTrue(inspect.isfunction(function))
+                    self.assertEqual(function.__module__, f"limitweave.{file}")
+                    self.assertEqual(str(inspect.signature(function)), arguments)
+
+    def test_classes(self):
+        for file, classes in CLASSES.items():
+            for name, methods in classes.items():
+                found = getattr(module_of(file), name)
+                self.assertEqual(found.__module__, f"limitweave.{file}")
+                for method, arguments in methods.items():
+                    with self.subTest(file=file, name=name, method=method):
+                        self.assertIn(method, vars(found))
+                        self.assertEqual(str(inspect.signature(vars(found)[method])), arguments)
+
+    def test_properties(self):
+        for (file, name), properties in PROPERTIES.items():
+            for word in properties:
+                with self.subTest(file=file, name=name, word=word):
+                    self.assertIsInstance(vars(getattr(module_of(file), name))[word], property)
