@@ -4,6 +4,16 @@ import importlib
 import inspect
 import unittest
 
+METER_METHODS = {
+    "__init__": "(self, limit)",
+    "room": "(self, moment, group, cost)",
+    "earliest": "(self, moment, group, cost)",
+    "let": "(self, moment, group, cost, key)",
+    "released": "(self, key, moment)",
+    "state_of": "(self, moment)",
+    "twin": "(self)",
+}
+
 FUNCTIONS = {
     "books": {
         "is_name": "(text)", "is_key": "(text)", "check_request": "(key, group, cost)", "check_moment": "(moment)",
@@ -13,6 +23,8 @@ FUNCTIONS = {
         "format_limit": "(limit)", "format_book": "(book)", "format_entry": "(entry)", "format_entries": "(entries)",
         "parse_book": "(text)", "parse_entries": "(text)", "format_answer": "(answer)",
     },
+    "meters": {"meter_for": "(limit)", "meter_from": "(limit, state, moment)"},
+    "reach": {"most_within": "(limit, moments)", "fullest_row": "(limit, moments)"},
 }
 
 CLASSES = {
@@ -23,6 +35,11 @@ CLASSES = {
         },
     },
     "keeper": {"Answer": {"__init__": "(self, key, moment, lacking, earliest)", "parts": "(self)"}},
+    "limits": {
+        "WindowMeter": METER_METHODS, "SpanMeter": METER_METHODS, "BucketMeter": METER_METHODS,
+        "GapMeter": METER_METHODS, "HeldMeter": METER_METHODS,
+    },
+    "pools": {"PoolMeter": METER_METHODS},
 }
 
 PROPERTIES = {("books", "Book"): ["limits", "limit_names"]}
