@@ -25,6 +25,15 @@ FUNCTIONS = {
     },
     "meters": {"meter_for": "(limit)", "meter_from": "(limit, state, moment)"},
     "reach": {"most_within": "(limit, moments)", "fullest_row": "(limit, moments)"},
+    "idle": {
+        "idle_beside": "(limit, other)", "parting_row": "(limit, other)", "check_parting": "(limit, other, row)",
+    },
+    "keeper": {"keeper_of_rows": "(book, moment, rows)"},
+    "replays": {"keeper_of": "(book, entries)", "answers_for": "(book, entries)", "deeds_of": "(book, entries)"},
+    "judge": {
+        "loads": "(limit, deeds)", "fullest": "(limit, deeds)", "faults": "(book, deeds)", "keeps": "(book, deeds)",
+        "would_break": "(book, deeds, request, moment)", "is_right": "(book, deeds, request, answer)",
+    },
 }
 
 CLASSES = {
@@ -34,7 +43,14 @@ CLASSES = {
             "with_limit": "(self, limit)", "without_limit": "(self, name)", "same_as": "(self, other)",
         },
     },
-    "keeper": {"Answer": {"__init__": "(self, key, moment, lacking, earliest)", "parts": "(self)"}},
+    "keeper": {
+        "Answer": {"__init__": "(self, key, moment, lacking, earliest)", "parts": "(self)"},
+        "Keeper": {
+            "__init__": "(self, book)", "ask": "(self, request, moment)", "release": "(self, key, moment)",
+            "knows": "(self, key)", "answer_of": "(self, key)", "holds": "(self, key)", "rows": "(self)",
+            "twin": "(self)",
+        },
+    },
     "limits": {
         "WindowMeter": METER_METHODS, "SpanMeter": METER_METHODS, "BucketMeter": METER_METHODS,
         "GapMeter": METER_METHODS, "HeldMeter": METER_METHODS,
