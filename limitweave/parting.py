@@ -16,11 +16,11 @@ class Row:
     """A row of entries that is written, which has not more entries and no later moments than it may."""
 
     def __init__(self):
-        self.entries = []
+        self.written = []
 
     def ask(self, group, cost, moment):
         """Put a request behind the row. Return its key."""
-        key = f"k{len(self.entries)}"
+        key = f"k{len(self.written)}"
         self._put(("ask", key, group, cost, moment))
         return key
 
@@ -30,9 +30,9 @@ class Row:
 
     def _put(self, entry):
         """Put an entry behind the row."""
-        if len(self.entries) >= MOST_ENTRIES or entry[-1] > GREATEST_MOMENT:
+        if len(self.written) >= MOST_ENTRIES or entry[-1] > GREATEST_MOMENT:
             raise TooLarge("the row would be too long or too late")
-        self.entries.append(entry)
+        self.written.append(entry)
 
 
 class Heap:
@@ -205,4 +205,4 @@ def row_of_plan(plan):
     """Return the list of the entries of the plan."""
     row = Row()
     plan.fill(row)
-    return row.entries
+    return row.written

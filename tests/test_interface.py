@@ -34,6 +34,18 @@ FUNCTIONS = {
         "loads": "(limit, deeds)", "fullest": "(limit, deeds)", "faults": "(book, deeds)", "keeps": "(book, deeds)",
         "would_break": "(book, deeds, request, moment)", "is_right": "(book, deeds, request, answer)",
     },
+    "papers": {
+        "refusal_paper": "(book, entries, key)", "check_refusal": "(book, deeds, request, moment, paper)",
+    },
+    "records": {
+        "check_digits": "(text)", "record_line": "(number, body)", "record_text": "(number, body)",
+        "read_record": "(line)", "whole_records": "(text)", "whole_length": "(text)",
+    },
+    "bodies": {
+        "view_body": "(view)", "row_body": "(row)", "head_body": "(many, entries, moment, view)",
+        "read_body": "(body)",
+    },
+    "journal": {"recovered": "(text)", "read_journal": "(text)", "mended": "(texts)"},
 }
 
 CLASSES = {
@@ -49,6 +61,14 @@ CLASSES = {
             "__init__": "(self, book)", "ask": "(self, request, moment)", "release": "(self, key, moment)",
             "knows": "(self, key)", "answer_of": "(self, key)", "holds": "(self, key)", "rows": "(self)",
             "twin": "(self)",
+        },
+    },
+    "journal": {
+        "Journal": {
+            "__init__": "(self)", "write": "(self, entry)", "write_view": "(self, view)",
+            "write_snapshot": "(self, keeper)", "records": "(self)", "text": "(self)", "entries": "(self)",
+            "first_entry": "(self)", "last_view": "(self)", "last_moment": "(self)", "knows": "(self, key)",
+            "torn": "(self, characters)", "trimmed": "(self)",
         },
     },
     "limits": {
