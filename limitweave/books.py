@@ -11,6 +11,9 @@ MOST_GROUPS = 8
 MOST_SHARES = 8
 MOST_LIMITS = 8
 
+# The words of the limits that count what is let in and not released, so that waiting alone makes no room under them.
+HOLDING = ("held", "pool")
+
 # For each word but "pool", whose numbers have another form: how small each of its numbers may be.
 LEAST_NUMBERS = {"window": (0, 1), "span": (0, 1), "bucket": (0, 1), "gap": (1,), "held": (0,)}
 

@@ -62,6 +62,9 @@ class Journal:
             raise InvalidJournal("the numbers of the records would be too great")
         many, entries, moment, view = head
         bodies = [head_body(many, entries, moment, view)] + [row_body(row) for row in rows]
+        # A head cannot tell of more entries than its bound, although so many may stand ahead with those dropped.
+        if None in [read_body(body) for body in bodies]:
+            raise InvalidJournal("the snapshot would have a body of no kind")
         self._put("keep", (head, rows), bodies)
         return number
 

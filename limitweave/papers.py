@@ -1,10 +1,8 @@
 """Papers of refusals, which name the requests that leave no room, so that a refusal can be checked without a search."""
 
-from limitweave.books import is_ascending, looks_at
+from limitweave.books import HOLDING, is_ascending, looks_at
 from limitweave.errors import InvalidPaper
 from limitweave.replays import deeds_of, keeper_of
-
-HOLDING = ("held", "pool")
 
 
 def lets_by_key(deeds):

@@ -3,13 +3,12 @@
 A plan is made by counting only, so that there is one also if the row would be far too long to be written.
 """
 
-from limitweave.books import GREATEST_COST, GREATEST_MOMENT, MOST_GROUPS, groups_of, looks_at
+from limitweave.books import GREATEST_COST, GREATEST_MOMENT, HOLDING, MOST_GROUPS, groups_of, looks_at
 from limitweave.errors import TooLarge
 from limitweave.sharing import capacity, uses_beyond
 from limitweave.supply import first_moment, first_multiple, least_distance, next_cost, portion_of, reached_at
 
 MOST_ENTRIES = 10000
-HOLDING = ("held", "pool")
 
 
 class Row:
@@ -133,14 +132,15 @@ def least_overflow(limit, other):
 
 
 def span_start(limit, other, total):
-    """Return the first moment of the first span of the limit in which the other one, a span too, lets in the total."""
+    """Return the first moment of the first span of the limit in which the other one, a span too, lets in the total.
+
+    The total can be reached within as many moments as a span of the limit has. Return None if it is in no such span.
+    """
     length = limit[3][1]
     step = other[3][1]
     distance = least_distance(other, total, GREATEST_COST)
-    # How far behind the beginning of a span of the other one this span has to begin, at the least.
+    # How far behind the beginning of a span of the other one this span has to begin, at the least. Less than a step.
     behind = max(0, distance + step - length) if distance > 0 else 0
-    if behind >= step:
-        return None
     turns = first_multiple(length, step, behind, step - 1)
     return None if turns is None else turns * length
 

@@ -1,6 +1,6 @@
 """How much a limit lets in within some moments."""
 
-from limitweave.books import GREATEST_COST
+from limitweave.books import GREATEST_COST, HOLDING
 from limitweave.errors import TooLarge
 
 MOST_ROW_COST = 10000
@@ -29,7 +29,7 @@ def can_hold(limit):
 def most_within(limit, moments):
     """Return the greatest cost within so many moments, or None if there is no greatest one."""
     word = limit[1]
-    if word == "held" or word == "pool":
+    if word in HOLDING:
         return None if can_hold(limit) else 0
     if word == "gap":
         return GREATEST_COST * parts_of(moments, limit[3][0])

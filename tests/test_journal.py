@@ -175,9 +175,29 @@ class Writing(unittest.TestCase):
         journal = recovered(text_of(numbered(head, 999997)))
         self.fails(InvalidJournal, journal, journal.write_snapshot, keeper_of_rows(BOOK, 3, [row]))
         self.assertEqual(journal.write_view((1, 0, ("a",))), 999999)
+        journal = recovered(text_of(numbered(head, 999997)))
+        self.assertEqual(journal.write(("ask", "b", "g", 1, 4)), 999999)
+        self.assertEqual(journal.records()[-1], (999999, "ask b g 1 4"))
+        self.fails(InvalidEntry, journal, journal.write, ("ask", "c", "g", 1, 4), number=1000000)
         journal = recovered(text_of(numbered(head, 999996)))
         self.assertEqual(journal.write_snapshot(keeper_of_rows(BOOK, 3, [row])), 999998)
         self.assertEqual(recovered(journal.text()).records(), journal.records())
+
+    def test_the_greatest_number_of_entries(self):
+        """A head tells of at most 999999 entries, also where more stand ahead together with those that were dropped."""
+        row = ("a", "g", 1, 3, (), 3, True)
+        for entries, writes in ((999998, True), (999999, False)):
+            journal = recovered(text_of(numbered([f"keep 1 {entries} 3", "key a g 1 3 back"])))
+            self.assertEqual(journal.write(("release", "a", 4)), 2)
+            keeper = keeper_of_rows(BOOK, 4, [row])
+            if writes:
+                self.assertEqual(journal.write_snapshot(keeper), 3)
+                self.assertEqual(journal.records()[3], (3, "keep 1 999999 4"))
+            else:
+                self.fails(InvalidJournal, journal, journal.write_snapshot, keeper)
+                self.assertEqual(journal.write(("release", "a", 4)), 3)
+                self.fails(InvalidJournal, journal, journal.write_snapshot, keeper)
+            self.assertEqual(read_journal(journal.text()).records(), journal.records())
 
 
 class Telling(unittest.TestCase):

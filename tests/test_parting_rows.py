@@ -8,6 +8,7 @@ from test_idle import WORDS, is_parting
 from limitweave.books import check_entries, check_limit
 from limitweave.errors import TooLarge
 from limitweave.idle import check_parting, idle_beside, parting_row
+from limitweave.supply import first_multiple
 
 TOP = 1000000
 LAST = 1000000000
@@ -144,6 +145,23 @@ class TooLargeRows(unittest.TestCase):
             self.fits(("n", "bucket", (), (TOP, 2)), ("m", word, (), (1001, 1780)))
             self.fits(("n", "bucket", (), (1500, 1)), ("m", word, (), (1001, 900)))
 
+        for word in ("window", "span"):
+            self.too_large(("n", "bucket", (), (TOP, 1)), ("m", word, (), (1001, 1000)))
+
+    def test_more_than_one_request_for_each_use(self):
+        self.fits(("n", "held", (), (1499,)), ("m", "held", (), (1500,)), 2)
+        self.fits(("n", "held", (), (2000,)), ("m", "held", (), (2001,)), 3)
+        self.fits(("n", "held", ("a", "b"), (3499,)), ("m", "pool", (), (3500, (("a", 1100, 2200), ("b", 1300, 1300)))))
+        self.fits(("n", "pool", (), (3499, (("a", 0, TOP), ("b", 0, TOP)))), ("m", "held", (), (3500,)), 4)
+        self.fits(("n", "pool", (), (3001, (("a", 1000, TOP), ("b", 1500, TOP)))), ("m", "held", (), (1502,)))
+        self.fits(("n", "held", (), (TOP - 1,)), ("m", "held", (), (TOP,)), 1000)
+        for limit, other in (
+            (("n", "held", ("a", "b"), (3500,)), ("m", "pool", (), (3500, (("a", 1100, 2200), ("b", 1300, 1300))))),
+            (("n", "pool", (), (3001, (("a", 1000, TOP), ("b", 1500, TOP)))), ("m", "held", (), (1501,))),
+            (("n", "held", (), (TOP,)), ("m", "held", (), (TOP,))),
+        ):
+            self.assertIs(idle_beside(limit, other), True)
+
     def test_moments(self):
         for word in ("window", "span", "bucket"):
             self.fits(("n", "held", (), (1000,)), ("m", word, (), (1, TOP)), 1001, LAST)
@@ -164,6 +182,14 @@ class TooLargeRows(unittest.TestCase):
         for numbers, others in (((2, 999999), (1, 999998)), ((2, TOP), (1, 999998)), ((1, 7), (1, 7)), ((1, 3), (1, 999999))):
             self.assertIs(idle_beside(("n", "span", (), numbers), ("m", "span", (), others)), True)
             self.assertIsNone(parting_row(("n", "span", (), numbers), ("m", "span", (), others)))
+
+    def test_first_multiples(self):
+        """By them the first span is found that touches enough spans of the other limit."""
+        for modulus in range(1, 24):
+            for step, low in itertools.product(range(1, 26), range(modulus)):
+                for high in range(low, modulus):
+                    found = [turns for turns in range(modulus) if low <= turns * step % modulus <= high]
+                    self.assertEqual(first_multiple(step, modulus, low, high), min(found, default=None), (step, modulus, low, high))
 
     def test_never_with_numbers_up_to_60(self):
         draw = random.Random(60)
