@@ -32,6 +32,8 @@ class Journal:
         self._bodies = []
         self._entries = []
         self._past = Past()
+        # The lines of the first records, each with its newline. They are made as soon as a text is asked for.
+        self._lines = []
         # The place of the head of the last snapshot among the bodies, or 0.
         self._last_head = 0
 
@@ -74,7 +76,10 @@ class Journal:
 
     def text(self):
         """Return the text of the records."""
-        return "".join([record_text(number, body) for number, body in self.records()])
+        done = len(self._lines)
+        for place, body in enumerate(self._bodies[done:], start=self._first + done):
+            self._lines.append(record_text(place, body))
+        return "".join(self._lines)
 
     def entries(self):
         """Return the list of the entries that are there."""

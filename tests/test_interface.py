@@ -46,6 +46,17 @@ FUNCTIONS = {
         "read_body": "(body)",
     },
     "journal": {"recovered": "(text)", "read_journal": "(text)", "mended": "(texts)"},
+    "snapshots": {
+        "keeper_from": "(book, journal)", "shortened": "(journal, book)", "agree": "(first, second)",
+        "common_beginning": "(first, second)", "is_beginning": "(first, second)",
+    },
+    "letters": {"told_body": "(answer)", "told_answer": "(body)"},
+    "chain": {
+        "first_view": "(houses)", "without_house": "(view, house)", "with_house": "(view, house)",
+        "ahead_of": "(view, house)", "behind": "(view, house)", "is_head": "(view, house)",
+        "is_last": "(view, house)",
+    },
+    "house": {"first_text": "(view, due)"},
 }
 
 CLASSES = {
@@ -76,6 +87,13 @@ CLASSES = {
         "GapMeter": METER_METHODS, "HeldMeter": METER_METHODS,
     },
     "pools": {"PoolMeter": METER_METHODS},
+    "letters": {"Letter": {"__init__": "(self, number, sender, receiver, view, body)", "parts": "(self)"}},
+    "house": {
+        "House": {
+            "__init__": "(self, name, book, text)", "row": "(self)", "journal_text": "(self)", "is_full": "(self)",
+            "handle": "(self, letter, moment)", "wake": "(self)",
+        },
+    },
 }
 
 PROPERTIES = {("books", "Book"): ["limits", "limit_names"]}
