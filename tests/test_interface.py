@@ -57,6 +57,9 @@ FUNCTIONS = {
         "is_last": "(view, house)",
     },
     "house": {"first_text": "(view, due)"},
+    "report": {
+        "refusal_table": "(book, entries)", "group_table": "(book, entries)", "answer_table": "(book, entries)",
+    },
 }
 
 CLASSES = {
@@ -94,9 +97,34 @@ CLASSES = {
             "handle": "(self, letter, moment)", "wake": "(self)",
         },
     },
+    "weave": {
+        "Weave": {
+            "__init__": "(self, book, houses)", "houses": "(self)", "present_view": "(self)", "stands": "(self, house)",
+            "row_of": "(self, house)", "journal_text": "(self, house)", "view_of": "(self, house)",
+            "due_of": "(self, house)", "full_houses": "(self)", "letters": "(self)",
+            "ask": "(self, key, group, cost, *, house=None)", "release": "(self, key, *, house=None)",
+            "tick": "(self, moments)", "deliver": "(self, number, *, falls_after=None)", "lose": "(self, number)",
+            "double": "(self, number)", "wake": "(self, house)", "fall": "(self, house)", "rise": "(self, house)",
+            "clear_disk": "(self, house)", "leave_out": "(self, house)", "take_in": "(self, house)",
+            "announce": "(self)", "ask_again": "(self)", "told": "(self)", "untold": "(self)",
+            "untold_releases": "(self)", "released": "(self)", "settle": "(self)",
+        },
+    },
+    "desk": {
+        "Desk": {
+            "__init__": "(self, book)", "ask": "(self, key, group, cost, moment)", "release": "(self, key, moment)",
+            "set_limit": "(self, limit)", "drop_limit": "(self, name)", "book_now": "(self)", "entries_now": "(self)",
+            "answers_now": "(self)", "turned": "(self, book)", "undo": "(self)", "redo": "(self)", "trial": "(self)",
+            "change_all": "(self, deeds)",
+        },
+        "Trial": {
+            "__init__": "(self, desk)", "__enter__": "(self)", "__exit__": "(self, kind, value, trace)",
+        },
+    },
+    "session": {"Session": {"__init__": "(self, book)", "obey": "(self, line)", "play": "(self, text)"}},
 }
 
-PROPERTIES = {("books", "Book"): ["limits", "limit_names"]}
+PROPERTIES = {("books", "Book"): ["limits", "limit_names"], ("desk", "Desk"): ["decided"]}
 
 
 def module_of(name):
