@@ -22,7 +22,7 @@ class Trial:
         return self._desk
 
     def __exit__(self, kind, value, trace):
-        """Put back what was kept if there is an error, which goes on."""
+        # What was decided stays in any case, and an error goes on, because nothing is returned.
         desk = self._desk
         if kind is not None:
             desk._now = self._now
